@@ -1,0 +1,1 @@
+"""Looktrails: slates written anew from what is seen."""

@@ -1,0 +1,43 @@
+"""The interface: which names there are, and how each takes its arguments."""
+
+import importlib
+import inspect
+import unittest
+
+FUNCTIONS = {
+    "halls": {
+        "is_hall": "(thing)",
+        "is_history": "(hall, thing)",
+        "seers": "(hall, person)",
+        "turned_hall": "(hall)",
+        "turned": "(history)",
+        "beside": "(one, other)",
+        "calls_in": "(history)",
+    },
+    "rings": {
+        "is_ring": "(hall, thing)",
+        "ring_among": "(hall, persons)",
+        "ringless": "(hall)",
+        "seen_first": "(hall)",
+    },
+    "halltexts": {
+        "hall_text": "(hall)",
+        "history_text": "(history)",
+        "hall_in": "(text)",
+        "history_in": "(hall, text)",
+    },
+}
+
+
+class Interface(unittest.TestCase):
+    def test_names_and_arguments(self):
+        for file, functions in FUNCTIONS.items():
+            module = importlib.import_module("looktrails." + file)
+            for name, arguments in functions.items():
+                function = getattr(module, name)
+                self.assertTrue(inspect.isfunction(function), name)
+                self.assertEqual(str(inspect.signature(function)), arguments, name)
+
+
+if __name__ == "__main__":
+    unittest.main()
