@@ -11,19 +11,29 @@ def is_number_below(thing, many):
     return is_number(thing) and thing < many
 
 
-def rises(numbers):
-    """Whether each of these numbers but the first is above the one ahead of it."""
-    return all([low < high for low, high in zip(numbers, numbers[1:])])
+def rises(things):
+    """Whether each of these numbers or tuples but the first is above the one ahead of it."""
+    return all([low < high for low, high in zip(things, things[1:])])
+
+
+def is_rising(thing):
+    """Whether a thing is a rising tuple of numbers from 0 up."""
+    if not isinstance(thing, tuple):
+        return False
+    # Kinds come first: a number and a text can't be compared.
+    return all([is_number(one) for one in thing]) and rises(thing)
 
 
 def is_rising_below(thing, many):
     """Whether a thing is a rising tuple of numbers from 0 to below many."""
-    if not isinstance(thing, tuple):
-        return False
-    # Kinds come first: a number and a text can't be compared.
-    if not all([is_number_below(one, many) for one in thing]):
-        return False
-    return rises(thing)
+    return is_rising(thing) and all([one < many for one in thing])
+
+
+def watched_ones(hall, watched):
+    """The rising list of those watched, all persons of the hall where that's None."""
+    if watched is None:
+        return list(range(len(hall)))
+    return list(watched)
 
 
 def own_copy(thing):

@@ -110,3 +110,75 @@ def kinds_of(thing):
     if isinstance(thing, (list, tuple)):
         return (type(thing).__name__, [kinds_of(one) for one in thing])
     return type(thing).__name__
+
+
+SWAP = ((1,), (0,))
+SELVES = ((0, 1), (0, 1, 2), (1,))
+BUSY = ((0, 3), (0, 2), (1, 4), (2, 3, 5), (3,), (0, 6), (7,), (5, 6, 7))
+
+
+def small_pairs():
+    """Small halls, each with histories short enough to hold all of them against each other."""
+    pairs = [(hall, all_histories(1, 4)) for hall in all_halls(1)]
+    pairs += [(hall, all_histories(2, 2)) for hall in all_halls(2)]
+    pairs.append((SWAP, all_histories(2, 3)))
+    pairs.append((((0, 1), (0,)), all_histories(2, 3)))
+    pairs += [(hall, all_histories(3, 2)) for hall in (LINE, TRIANGLE, SELVES, ((), (0, 2), (1,)))]
+    return pairs
+
+
+def drawn_questions(count, persons=(3, 5), beats=6, seed=7):
+    """Pairs of a hall and a history of it, drawn by chance but always the same ones."""
+    source = random.Random(seed)
+    drawn = []
+    for number in range(count):
+        hall = random_hall(source, source.randint(*persons))
+        drawn.append((hall, random_history(source, len(hall), source.randint(0, beats))))
+    return drawn
+
+
+def changed_a_bit(source, hall, history):
+    """That history with some calls put in or struck."""
+    changed = [set(beat) for beat in history]
+    for time in range(source.randint(0, 3)):
+        if changed:
+            source.choice(changed).symmetric_difference_update({source.randrange(len(hall))})
+    return [tuple(sorted(beat)) for beat in changed]
+
+
+def drawn_pairs(count, persons=(3, 5), beats=6, seed=8):
+    """Triples of a hall and two histories of it that are often alike, always the same ones."""
+    source = random.Random(seed)
+    return [
+        (hall, history, changed_a_bit(source, hall, history))
+        for hall, history in drawn_questions(count, persons, beats, seed)
+    ]
+
+
+def full_question(seed=1):
+    """A hall and a history as large as the bounds let."""
+    source = random.Random(seed)
+    hall = random_hall(source, 8)
+    return hall, [tuple(sorted(source.sample(range(8), 5))) for beat in range(60)]
+
+
+def drawn_slate(source, most=4):
+    return tuple(sorted({source.randint(0, 5) for number in range(source.randint(0, most))}))
+
+
+def drawn_rules(source, hall):
+    """RULES of that hall over the marks 0 to 5."""
+    rules = []
+    for row in hall:
+        triples = set()
+        if row:
+            for number in range(source.randint(0, 6)):
+                triples.add((source.choice(row), source.randint(0, 5), source.randint(0, 5)))
+        rules.append((drawn_slate(source, 2), tuple(sorted(triples))))
+    return rules
+
+
+def watched_choices(hall):
+    """All, none, each by itself, and all but the first."""
+    persons = list(range(len(hall)))
+    return [None, [], persons, persons[1:]] + [[person] for person in persons]

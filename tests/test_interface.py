@@ -26,6 +26,30 @@ FUNCTIONS = {
         "hall_in": "(text)",
         "history_in": "(hall, text)",
     },
+    "runs": {
+        "is_rules": "(hall, thing)",
+        "run_marks": "(hall, history, rules, first)",
+        "run_sums": "(hall, history, sums, first, *, rest)",
+    },
+    "trails": {
+        "is_trail": "(hall, thing)",
+        "dates": "(hall, history, trail, *, ahead=None)",
+        "goes": "(hall, history, trail)",
+        "trails_of": "(hall, history, person, *, long=4)",
+        "longest_trail": "(hall, history)",
+    },
+    "hangs": {
+        "hangs_on": "(hall, history, person)",
+        "hanging_trail": "(hall, history, person, other)",
+        "shows_hanging": "(hall, history, person, other, thing)",
+    },
+    "alike": {
+        "are_alike": "(hall, one, other, *, watched=None)",
+        "unlike_persons": "(hall, one, other)",
+        "parting_trail": "(hall, one, other, *, watched=None)",
+        "parting_rules": "(hall, trail)",
+        "shows_parted": "(hall, one, other, thing, *, watched=None)",
+    },
 }
 
 

@@ -39,6 +39,7 @@ BARRED_WORDS = re.compile(
     r"|ABCMeta|namedtuple|NamedTuple|TypedDict|TYPE_CHECKING|abstractmethod)\b"
     r"|dataclass|overload|contextmanager"
 )
+ITERATED_AT_ONCE = ("zip", "enumerate", "reversed", "range", "items", "keys", "values", "set")
 MODULE_LEVEL = (ast.ImportFrom, ast.FunctionDef, ast.ClassDef, ast.Assign, ast.AnnAssign)
 BARRED_NODES = (
     ast.Import, ast.Global, ast.AsyncFunctionDef, ast.AsyncFor, ast.AsyncWith, ast.Await, ast.Div,
@@ -86,6 +87,13 @@ def defined_in(file):
         elif isinstance(node, ast.Assign):
             found |= {target.id for target in node.targets}
     return found
+
+
+def called_name(node):
+    """The name of the function or method that an expression calls, None where it's no call."""
+    if not isinstance(node, ast.Call):
+        return None
+    return node.func.attr if isinstance(node.func, ast.Attribute) else node.func.id
 
 
 def each_file(check):
@@ -211,6 +219,17 @@ class Language(unittest.TestCase):
         for node in ast.walk(tree):
             if isinstance(node, ast.Call) and isinstance(node.func, ast.Attribute):
                 self.assertIn(node.func.attr, allowed)
+
+    @each_file
+    def test_iterated_at_once(self, path, tree):
+        for node in ast.walk(tree):
+            # A list stands for each of these, so no class with == bars them later on.
+            self.assertNotIsInstance(node, (ast.GeneratorExp, ast.Yield, ast.YieldFrom))
+            if isinstance(node, (ast.Assign, ast.AnnAssign, ast.Return, ast.keyword)):
+                self.assertNotIn(called_name(node.value), ITERATED_AT_ONCE)
+            if isinstance(node, (ast.List, ast.Tuple)):
+                for one in node.elts:
+                    self.assertNotIn(called_name(one), ITERATED_AT_ONCE)
 
     @each_file
     def test_escapes(self, path, tree):

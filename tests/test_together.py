@@ -1,0 +1,150 @@
+"""What is promised over several points together: [1] (a), (f), (g), and the words in brackets of [10]."""
+
+import unittest
+
+import samples
+import slow
+from looktrails.alike import are_alike, parting_rules, parting_trail, shows_parted, unlike_persons
+from looktrails.halls import beside, turned, turned_hall
+from looktrails.hangs import hanging_trail, hangs_on
+from looktrails.trails import goes, longest_trail, trails_of
+
+
+def questions():
+    small = [(hall, history) for hall, rows in samples.small_pairs() for history in rows]
+    return small + samples.drawn_questions(80)
+
+
+def pairs():
+    small = [
+        (hall, one, other)
+        for hall, histories in samples.small_pairs()
+        for one in histories
+        for other in histories[:: 1 + len(histories) // 12]
+    ]
+    return small + samples.drawn_pairs(200)
+
+
+def with_call(history, beat, person):
+    """That history with a call put in."""
+    return history[:beat] + [tuple(sorted(history[beat] + (person,)))] + history[beat + 1 :]
+
+
+def late_calls(hall, history):
+    """All calls that may be put in, each with the history that it leads to."""
+    return [
+        (beat, person, with_call(history, beat, person))
+        for beat in range(len(history))
+        for person in range(len(hall))
+        if person not in history[beat]
+    ]
+
+
+def passes_only_through(history, trail, beat, person):
+    """Whether a trail goes, and whatever beats that fall it takes, it calls that one then."""
+    ways = slow.falling_beats(history, trail)
+    return bool(ways) and all((person, beat) in zip(trail, way) for way in ways)
+
+
+class Parting(unittest.TestCase):
+    def test_alike_or_a_trail_and_rules_that_part(self):
+        for hall, one, other in pairs():
+            trail = parting_trail(hall, one, other)
+            same = all(
+                trails_of(hall, one, person, long=5) == trails_of(hall, other, person, long=5)
+                for person in range(len(hall))
+            )
+            if are_alike(hall, one, other):
+                self.assertTrue(same)
+                self.assertIsNone(trail)
+            else:
+                self.assertNotEqual(goes(hall, one, trail), goes(hall, other, trail))
+                self.assertEqual(same, len(trail) > 5)
+                thing = (parting_rules(hall, trail), [() for person in hall])
+                self.assertIs(shows_parted(hall, one, other, thing, watched=[trail[0]]), True)
+
+
+class TurnedAbout(unittest.TestCase):
+    def test_what_goes(self):
+        for hall, history in questions():
+            for trail in slow.all_trails(hall, 4):
+                back = goes(turned_hall(hall), turned(history), trail[::-1])
+                self.assertIs(goes(hall, history, trail), back)
+
+    def test_how_long_the_longest_trail_is(self):
+        for hall, history in questions() + [samples.full_question(seed) for seed in range(5)]:
+            back = longest_trail(turned_hall(hall), turned(history))
+            self.assertEqual(len(longest_trail(hall, history)), len(back))
+
+    def test_what_is_alike(self):
+        for hall, one, other in pairs():
+            back = are_alike(turned_hall(hall), turned(one), turned(other))
+            self.assertIs(are_alike(hall, one, other), back)
+
+    def test_how_long_the_parting_trail_is(self):
+        for hall, one, other in pairs():
+            told = parting_trail(hall, one, other)
+            back = parting_trail(turned_hall(hall), turned(one), turned(other))
+            self.assertEqual(len(told or ()), len(back or ()))
+
+
+class LateCalls(unittest.TestCase):
+    def test_just_those_that_a_trail_through_it_leads_to(self):
+        for hall, history in questions()[::3]:
+            for beat, person, behind in late_calls(hall, history):
+                trails = slow.all_trails(hall, len(history))
+                led = {one[0] for one in trails if passes_only_through(behind, one, beat, person)}
+                self.assertEqual(unlike_persons(hall, history, behind), sorted(led))
+                self.assertEqual(unlike_persons(hall, behind, history), sorted(led))
+
+    def test_what_is_seen_of_it_by_nobody_changes_its_own_slate_alone(self):
+        for person in range(3):
+            told = unlike_persons(samples.LINE, [()], [(person,)])
+            self.assertEqual(told, [person])
+
+    def test_hangs_on_just_those_at_which_a_trail_ends(self):
+        for hall, history in questions():
+            for person in range(len(hall)):
+                ends = [
+                    other
+                    for other in range(len(hall))
+                    if hanging_trail(hall, history, person, other) is not None
+                ]
+                self.assertEqual(hangs_on(hall, history, person), ends)
+
+
+class OneBehindTheOther(unittest.TestCase):
+    def test_a_trail_goes_just_where_it_can_be_cut(self):
+        for hall, one, other in pairs():
+            for trail in slow.all_trails(hall, 3):
+                cuts = [
+                    (not trail[:cut] or goes(hall, other, trail[:cut]))
+                    and (not trail[cut:] or goes(hall, one, trail[cut:]))
+                    for cut in range(len(trail) + 1)
+                ]
+                self.assertIs(goes(hall, one + other, trail), any(cuts))
+
+    def test_alike_ones_may_be_put_for_one_another(self):
+        for hall, one, other in pairs():
+            if are_alike(hall, one, other):
+                for third in ([], [(0,)], one[::-1], [tuple(range(len(hall)))]):
+                    self.assertIs(are_alike(hall, one + third, other + third), True)
+                    self.assertIs(are_alike(hall, third + one, third + other), True)
+
+
+class HallsBesideOneAnother(unittest.TestCase):
+    def test_each_is_as_it_was(self):
+        drawn = samples.drawn_pairs(40, (1, 3), 4)
+        for (hall, one, other), (next_hall, next_one, next_other) in zip(drawn, drawn[1:]):
+            both = beside(hall, next_hall)
+            many = len(hall)
+            moved = [tuple(many + person for person in beat) for beat in next_one]
+            moved_other = [tuple(many + person for person in beat) for beat in next_other]
+            told = unlike_persons(both, one + moved, moved_other + other)
+            right = unlike_persons(hall, one, other)
+            right += [many + person for person in unlike_persons(next_hall, next_one, next_other)]
+            self.assertEqual(told, right)
+
+
+if __name__ == "__main__":
+    unittest.main()
