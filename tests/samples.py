@@ -182,3 +182,27 @@ def watched_choices(hall):
     """All, none, each by itself, and all but the first."""
     persons = list(range(len(hall)))
     return [None, [], persons, persons[1:]] + [[person] for person in persons]
+
+
+def deeper_pairs():
+    """Small halls, each with all its histories of some more beats."""
+    pairs = [(hall, all_histories(1, 5)) for hall in all_halls(1)]
+    pairs += [(hall, all_histories(2, 3)) for hall in all_halls(2)]
+    pairs += [(hall, all_histories(3, 2)) for hall in (LINE, TRIANGLE, SELVES, ((), (0, 2), (1,)))]
+    return pairs
+
+
+def small_questions(count, pairs):
+    """Each hall of these pairs with each of its histories, and so many larger ones."""
+    return [(hall, history) for hall, histories in pairs for history in histories] + drawn_questions(count)
+
+
+def small_comparisons(count, about):
+    """Triples of a hall and two histories: each small one with about so many others, and larger ones."""
+    small = [
+        (hall, one, other)
+        for hall, histories in small_pairs()
+        for one in histories
+        for other in histories[:: 1 + len(histories) // about]
+    ]
+    return small + drawn_pairs(count)

@@ -104,3 +104,74 @@ def is_rules(hall, thing):
         if list(rule[1]) != sorted(set(rule[1])):
             return False
     return True
+
+
+def version_rows(hall, history):
+    """For each beat the versions ahead of it, and then the last ones."""
+    rows = tree_rows(hall, history)
+    told = [[0 for person in hall]]
+    for ahead, behind in zip(rows, rows[1:]):
+        told.append([number + (old != new) for number, old, new in zip(told[-1], ahead, behind)])
+    return told
+
+
+def numbered_calls(hall, history, watched=None):
+    """The CALL of each tree that is within the last ones of those watched."""
+    wanted = set().union(*[calls_within(tree) for tree in watched_trees(hall, history, watched)])
+    counts = [0 for person in hall]
+    found = {}
+    for row in tree_rows(hall, history):
+        for person, tree in enumerate(row):
+            if tree in wanted and tree not in found:
+                counts[person] += 1
+                found[tree] = (person, counts[person])
+    return found
+
+
+def words(hall, history, watched=None):
+    """For each beat the pairs (person, word)."""
+    calls = numbered_calls(hall, history, watched)
+    rows = tree_rows(hall, history)
+    told = []
+    for beat, persons in enumerate(history):
+        told.append([])
+        for person in persons:
+            tree = rows[beat + 1][person]
+            new = "needed" if tree in calls else "unread"
+            told[-1].append((person, "same" if tree == rows[beat][person] else new))
+    return told
+
+
+def sights(hall, history, watched=None):
+    """For each CALL the pairs (seen, number) of all that it sees."""
+    calls = numbered_calls(hall, history, watched)
+    return {
+        call: [
+            (seen, calls[branch][1] if branch in calls else 0)
+            for seen, branch in zip(hall[call[0]], tree[2])
+        ]
+        for tree, call in calls.items()
+    }
+
+
+def bounds(hall, history, watched=None):
+    """The rising list of triples (CALL, CALL, step)."""
+    seen_by = sights(hall, history, watched)
+    steps = []
+    for call, seen_pairs in seen_by.items():
+        for seen, number in seen_pairs:
+            steps.append(((seen, number), call, 1))
+            steps.append((call, (seen, number + 1), 0))
+        steps.append((call, (call[0], call[1] + 1), 1))
+    real = [row for row in steps if row[0] in seen_by and row[1] in seen_by and row[0] != row[1]]
+    return [row for row in sorted(set(real)) if row[2] == 1 or (row[0], row[1], 1) not in real]
+
+
+def beats_of(history):
+    """The beat of each call of a history, a person's calls counted from 1."""
+    found = {}
+    for beat, persons in enumerate(history):
+        for person in persons:
+            number = sum(person in earlier for earlier in history[: beat + 1])
+            found[(person, number)] = beat
+    return found

@@ -15,14 +15,7 @@ ALL_FIVE = (tuple(range(5)),) * 5
 
 
 def pairs_of_histories():
-    """Triples of a hall and two histories: all small ones, and some larger ones."""
-    small = [
-        (hall, one, other)
-        for hall, histories in samples.small_pairs()
-        for one in histories
-        for other in histories[:: 1 + len(histories) // 25]
-    ]
-    return small + samples.drawn_pairs(300)
+    return samples.small_comparisons(300, 25)
 
 
 def parted_by(hall, one, other, watched=None):

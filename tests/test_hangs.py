@@ -41,8 +41,7 @@ def passing_rules(hall):
 
 
 def questions():
-    drawn = samples.drawn_questions(80)
-    return drawn + [(hall, history) for hall, rows in samples.small_pairs() for history in rows]
+    return samples.small_questions(80, samples.small_pairs())
 
 
 class HangsOn(unittest.TestCase):

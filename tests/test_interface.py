@@ -50,6 +50,29 @@ FUNCTIONS = {
         "parting_rules": "(hall, trail)",
         "shows_parted": "(hall, one, other, thing, *, watched=None)",
     },
+    "versions": {
+        "version_at": "(hall, history, person, *, ahead=None)",
+        "written_at": "(hall, history, person)",
+        "seen_at": "(hall, history, beat, person)",
+        "words": "(hall, history, *, watched=None)",
+    },
+    "common": {
+        "common": "(hall, one, other, person)",
+    },
+    "order": {
+        "needed": "(hall, history, *, watched=None)",
+        "sights": "(hall, history, call, *, watched=None)",
+        "bounds": "(hall, history, *, watched=None)",
+        "keeps": "(hall, history, thing, *, watched=None)",
+    },
+    "least": {
+        "earliest": "(hall, history, *, watched=None)",
+        "latest": "(hall, history, *, watched=None)",
+        "fewest": "(hall, history, *, watched=None)",
+        "chain": "(hall, history, *, watched=None)",
+        "spans": "(hall, history, *, watched=None)",
+        "shows_chain": "(hall, history, thing, *, watched=None)",
+    },
 }
 
 

@@ -157,9 +157,7 @@ class TrailsOf(unittest.TestCase):
         self.assertEqual(trails_of(samples.LINE, [()], 0, long=1), [])
 
     def test_just_all_that_go_rising(self):
-        questions = samples.drawn_questions(60)
-        questions += [(hall, history) for hall, rows in samples.small_pairs() for history in rows]
-        for hall, history in questions:
+        for hall, history in samples.small_questions(60, samples.small_pairs()):
             going = slow.trails_that_go(hall, history, 5)
             for person in range(len(hall)):
                 for long in range(1, 6):
