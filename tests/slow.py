@@ -175,3 +175,127 @@ def beats_of(history):
             number = sum(person in earlier for earlier in history[: beat + 1])
             found[(person, number)] = beat
     return found
+
+
+def all_rows(many, longest):
+    """All ROWs of so many persons and of up to so many calls, shorter ones ahead, then as lists rise."""
+    return [
+        list(row)
+        for size in range(longest + 1)
+        for row in itertools.product(range(many), repeat=size)
+    ]
+
+
+def row_trees(hall, longest):
+    """All ROWs of up to so many calls, each with its last trees, in the order of all_rows."""
+    found = []
+    level = [([], tuple(("first", person) for person in range(len(hall))))]
+    for size in range(longest + 1):
+        found.extend(level)
+        level = [
+            (row + [person], called(hall, trees, person))
+            for row, trees in level
+            for person in range(len(hall))
+        ]
+    return found
+
+
+def called(hall, trees, person):
+    """The trees behind a call of that person alone."""
+    written = ("call", person, tuple(trees[seen] for seen in hall[person]))
+    return trees[:person] + (written,) + trees[person + 1 :]
+
+
+def rows_by_trees(hall, longest, watched=None):
+    """For each row of last trees of those watched, the ROWs of fewest calls that leave these, rising."""
+    groups = {}
+    for row, trees in row_trees(hall, longest):
+        key = trees if watched is None else tuple(trees[person] for person in watched)
+        rows = groups.setdefault(key, [])
+        if not rows or len(rows[0]) == len(row):
+            rows.append(row)
+    return groups
+
+
+def is_ring(hall, thing):
+    if type(thing) is not tuple or not thing or not all(is_number(one) and one < len(hall) for one in thing):
+        return False
+    return len(set(thing)) == len(thing) and all(
+        thing[place] in hall[thing[place - 1]] for place in range(len(thing))
+    )
+
+
+def drop_word(hall, row, place):
+    """How a call may be dropped, by the places of the calls of its person."""
+    person = row[place]
+    own = [at for at, one in enumerate(row) if one == person]
+    if person in hall[person]:
+        return ""
+    ahead = [at for at in own if at < place]
+    if ahead and not [one for one in row[ahead[-1] + 1 : place] if one in hall[person]]:
+        return "again"
+    behind = [at for at in own if at > place]
+    if behind and not [one for one in row[place + 1 : behind[0]] if person in hall[one]]:
+        return "lost"
+    return ""
+
+
+def may_exchange(hall, row, place):
+    one, other = row[place : place + 2]
+    return one != other and one not in hall[other] and other not in hall[one]
+
+
+def behind_deed(hall, row, deed):
+    """The ROW behind a DEED, None where it can't be done."""
+    row = list(row)
+    word, place, *persons = deed
+    if word == "drop":
+        if place < len(row) and drop_word(hall, row, place):
+            return row[:place] + row[place + 1 :]
+    elif word == "exchange":
+        if place + 1 < len(row) and may_exchange(hall, row, place):
+            return row[:place] + [row[place + 1], row[place]] + row[place + 2 :]
+    elif place <= len(row) and persons[0] < len(hall):
+        row.insert(place, persons[0])
+        if drop_word(hall, row, place):
+            return row
+    return None
+
+
+def is_deeds(hall, one, other, thing):
+    """Whether a thing is a list of DEEDs that leads the one ROW to the other."""
+    if type(thing) is not list:
+        return False
+    row = list(one)
+    for deed in thing:
+        if type(deed) is not tuple or [type(part) for part in deed] not in ([str, int], [str, int, int]):
+            return False
+        if (deed[0], len(deed)) not in (("drop", 2), ("exchange", 2), ("put", 3)) or min(deed[1:]) < 0:
+            return False
+        row = behind_deed(hall, row, deed)
+        if row is None:
+            return False
+    return row == list(other)
+
+
+def is_late(hall, one, other, thing, watched=None):
+    """Whether a thing is a list of wants, by the trees."""
+    calls = numbered_calls(hall, other, watched)
+    trees = {call: tree for tree, call in calls.items()}
+    trees.update({(person, 0): ("first", person) for person in range(len(hall))})
+    seen_by = sights(hall, other, watched)
+    stands = last_trees(hall, one)
+    lasts = [
+        max((call for call in trees if call[0] == person), key=lambda call: call[1])
+        for person in (range(len(hall)) if watched is None else watched)
+    ]
+    if type(thing) is not list or not thing:
+        return False
+    for place, want in enumerate(thing):
+        if type(want) is not tuple or [type(one) for one in want] != [int, int] or want not in trees:
+            return False
+        if trees[want] == stands[want[0]] or (want[1] == 0) != (place == len(thing) - 1):
+            return False
+        if want not in (seen_by[thing[place - 1]] if place else lasts):
+            return False
+    return True

@@ -73,6 +73,28 @@ FUNCTIONS = {
         "spans": "(hall, history, *, watched=None)",
         "shows_chain": "(hall, history, thing, *, watched=None)",
     },
+    "onebyone": {
+        "as_history": "(row)",
+        "one_by_one": "(hall, history, *, watched=None)",
+        "shows_ring": "(hall, history, thing, *, watched=None)",
+        "rows_many": "(hall, history, *, watched=None)",
+        "row_at": "(hall, history, number, *, watched=None)",
+    },
+    "drops": {
+        "drop_word": "(hall, row, place)",
+        "may_exchange": "(hall, row, place)",
+        "led": "(hall, row, deeds)",
+        "deeds_between": "(hall, one, other)",
+        "shows_deeds": "(hall, one, other, thing)",
+    },
+    "further": {
+        "further": "(hall, one, other, *, watched=None)",
+        "shows_late": "(hall, one, other, thing, *, watched=None)",
+    },
+    "again": {
+        "goings": "(history, many)",
+        "settles": "(hall, history)",
+    },
 }
 
 
