@@ -65,10 +65,14 @@ def persons_in(text, many):
     """The rising tuple of persons below many whose text this is, else None."""
     if text == "-":
         return ()
+    persons = numbers_in(text.split(" "), many)
+    return tuple(persons) if persons is not None and rises(persons) else None
+
+
+def numbers_in(words, many):
+    """The list of the numbers below many that these words are, else None."""
     # Looked up by its figures, no other writing of a number can pass for it.
-    known = {str(person): person for person in range(many)}
-    words = text.split(" ")
+    known = {str(number): number for number in range(many)}
     if not all([word in known for word in words]):
         return None
-    persons = tuple([known[word] for word in words])
-    return persons if rises(persons) else None
+    return [known[word] for word in words]

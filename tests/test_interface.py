@@ -95,6 +95,20 @@ FUNCTIONS = {
         "goings": "(history, many)",
         "settles": "(hall, history)",
     },
+    "ends": {
+        "settled": "(hall)",
+        "ends": "(hall)",
+        "ends_many": "(hall)",
+    },
+    "joint": {
+        "paper_for": "(hall, one, other, *, watched=None)",
+        "shows_paper": "(hall, one, other, thing, *, watched=None)",
+        "answers_for": "(hall, pairs)",
+        "likes": "(hall, histories)",
+    },
+    "desk": {
+        "answers": "(text)",
+    },
 }
 
 
