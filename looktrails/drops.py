@@ -3,7 +3,7 @@
 from looktrails.alike import are_alike
 from looktrails.errors import BadDeed
 from looktrails.halls import seers
-from looktrails.kinds import is_number
+from looktrails.kinds import is_number, is_number_below
 from looktrails.onebyone import as_history
 
 AGAIN = "again"
@@ -39,7 +39,8 @@ def comes_first(row, person, others):
 
 def may_exchange(hall, row, place):
     """Whether the calls at place and place + 1 may be exchanged."""
-    if place + 1 >= len(row):
+    # A place below 0 would be counted from the end, so it's asked of, too, here and below.
+    if not is_number_below(place, len(row) - 1):
         return False
     first, second = row[place], row[place + 1]
     return first != second and first not in hall[second] and second not in hall[first]
@@ -66,7 +67,7 @@ def behind_deed(hall, row, deed):
 
 def behind_drop(hall, row, place):
     """The ROW without the call at that place, None where it may not be dropped."""
-    if place >= len(row) or drop_word(hall, row, place) == "":
+    if not is_number_below(place, len(row)) or drop_word(hall, row, place) == "":
         return None
     return row[:place] + row[place + 1:]
 
@@ -80,7 +81,7 @@ def behind_exchange(hall, row, place):
 
 def behind_put(hall, row, place, person):
     """The ROW with a call put in, None where it might not be dropped there at once."""
-    if place > len(row) or person >= len(hall):
+    if not is_number_below(place, len(row) + 1) or not is_number_below(person, len(hall)):
         return None
     reached = row[:place] + [person] + row[place:]
     return reached if drop_word(hall, reached, place) != "" else None

@@ -249,6 +249,8 @@ def behind_deed(hall, row, deed):
     """The ROW behind a DEED, None where it can't be done."""
     row = list(row)
     word, place, *persons = deed
+    if min(deed[1:]) < 0:
+        return None
     if word == "drop":
         if place < len(row) and drop_word(hall, row, place):
             return row[:place] + row[place + 1 :]
@@ -270,7 +272,7 @@ def is_deeds(hall, one, other, thing):
     for deed in thing:
         if type(deed) is not tuple or [type(part) for part in deed] not in ([str, int], [str, int, int]):
             return False
-        if (deed[0], len(deed)) not in (("drop", 2), ("exchange", 2), ("put", 3)) or min(deed[1:]) < 0:
+        if (deed[0], len(deed)) not in (("drop", 2), ("exchange", 2), ("put", 3)):
             return False
         row = behind_deed(hall, row, deed)
         if row is None:

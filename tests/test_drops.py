@@ -210,6 +210,19 @@ class Led(unittest.TestCase):
         for deed in (("drop", 0), ("exchange", 0), ("put", 0, 0), ("put", 1, 0)):
             self.assertEqual(self.refused(samples.LINE, [], [deed]), 0, deed)
 
+    def test_places_and_persons_below_nought(self):
+        below = (-1, -2, -3, -4, -(10**30))
+        deeds = [(word, place) for word in ("drop", "exchange") for place in below]
+        deeds += [("put", place, person) for place in below for person in (0, 1, 2, -1)]
+        deeds += [("put", place, person) for place in (0, 1, 2, 3) for person in below]
+        for row in ([], [2], [2, 2], [0, 1, 0]):
+            for hall in (FREE, samples.LINE):
+                for deed in deeds:
+                    self.assertEqual(self.refused(hall, row, [deed]), 0, (hall, row, deed))
+                    self.assertEqual(self.refused(hall, tuple(row), [list(deed)]), 0, (hall, row, deed))
+        for deed in deeds:
+            self.assertEqual(self.refused(FREE, [0, 1], [("exchange", 0), ("put", 0, 1), deed]), 2, deed)
+
     def test_deeds_behind_it_are_not_looked_at(self):
         deeds = [("put", 1, 0), ("drop", 5), ("drop", 0), ("exchange", 99)]
         self.assertEqual(self.refused(samples.LINE, [0], deeds), 1)
@@ -217,8 +230,10 @@ class Led(unittest.TestCase):
     def test_each_deed_of_all_small_rows(self):
         for hall, rows in small_rows()[::13]:
             for row in rows:
-                deeds = [(word, place) for word in ("drop", "exchange") for place in range(len(row) + 2)]
-                deeds += [("put", place, who) for place in range(len(row) + 2) for who in range(len(hall) + 1)]
+                places = range(-len(row) - 2, len(row) + 2)
+                persons = range(-len(hall) - 1, len(hall) + 1)
+                deeds = [(word, place) for word in ("drop", "exchange") for place in places]
+                deeds += [("put", place, person) for place in places for person in persons]
                 for deed in deeds:
                     right = slow.behind_deed(hall, row, deed)
                     if right is None:
